@@ -1,4 +1,4 @@
-package auto
+package alike
 
 // parting is states in groups, which are split and split again.
 type parting struct {
@@ -27,7 +27,7 @@ func oneGroup(n int) *parting {
 // states is those of a group: a piece of the order itself.
 func (p *parting) states(g int) []int { return p.order[p.groups[g].first:p.groups[g].end] }
 
-// mark marks a state that isn't marked. (Nobody does so twice between two splits, since one head leads from a state to
+// mark marks a state that isn't marked. (Nobody does so twice between two splits, since one column leads from a state to
 // one only.)
 func (p *parting) mark(q int) {
 	g := &p.groups[p.of[q]]
